@@ -1,0 +1,1 @@
+"""Burstshop: circuits without a clock, right for all delays."""
