@@ -1,11 +1,13 @@
 """What several tests share: slow answers by the words of the document, wrong values, and checks."""
 
 import copy
+import functools
 import itertools
 import random
 import unittest
 
 from burstshop.errors import InvalidCube, NothingLeft, ShopError
+from burstshop.growth import Demand
 from burstshop.tables import Table
 
 SIZES = (1, 2, 3, 4, 5)
@@ -24,9 +26,10 @@ def cubes(n):
     return ["".join(signs) for signs in itertools.product("-01", repeat=n)]
 
 
+@functools.cache
 def inside(cube):
     """The points of a cube: those with its sign wherever it is not "-"."""
-    return {p for p in points(len(cube)) if all(c in ("-", s) for c, s in zip(cube, p))}
+    return frozenset(p for p in points(len(cube)) if all(c in ("-", s) for c, s in zip(cube, p)))
 
 
 def tables(n):
@@ -44,6 +47,236 @@ def some_tables(n, many, seed, signs="01-"):
     return rows
 
 
+def changes(n):
+    """All changes of n inputs."""
+    return [(start, end) for start in points(n) for end in points(n) if start != end]
+
+
+def slow_span(c, d):
+    return "".join(a if a == b else "-" for a, b in zip(c, d))
+
+
+def signs_of(text):
+    return dict(zip(points(len(text).bit_length() - 1), text))
+
+
+def most_turns(signs, start, end):
+    """How often the table's value turns at most while each input that differs turns once."""
+    most = {end: 0}
+    # The points nearer to the end come first.
+    room = sorted(inside(slow_span(start, end)), key=lambda point: sum(a != b for a, b in zip(point, end)))
+    for point in room[1:]:
+        rest = inside(slow_span(point, end)) - {point}
+        most[point] = max((signs[point] != signs[other]) + most[other] for other in rest)
+    return most[start]
+
+
+@functools.cache
+def slow_kind(text, change):
+    """The word that the nature of a change begins with, by the words of [18]."""
+    signs = signs_of(text)
+    start, end = change
+    shown = {signs[point] for point in inside(slow_span(start, end))}
+    if "-" in shown:
+        return "free"
+    if most_turns(signs, start, end) > (signs[start] != signs[end]):
+        return "uneven"
+    return {"00": "low", "11": "high", "01": "rise", "10": "fall"}[signs[start] + signs[end]]
+
+
+def shows_uneven(text, change, thing):
+    """Whether thing shows that a change is uneven, by the words of [19]."""
+    signs = signs_of(text)
+    start, end = change
+    if not isinstance(thing, (list, tuple)) or len(thing) < 2:
+        return False
+    if not all(isinstance(item, str) and item in signs and signs[item] != "-" for item in thing):
+        return False
+    if thing[0] != start or thing[-1] != end:
+        return False
+    for k in range(1, len(thing)):
+        if thing[k] == thing[k - 1] or thing[k] not in inside(slow_span(thing[k - 1], end)):
+            return False
+    turns = sum(signs[thing[k]] != signs[thing[k - 1]] for k in range(1, len(thing)))
+    return turns >= 1 if signs[start] == signs[end] else turns >= 2
+
+
+def slow_is_cover(thing, n):
+    if not isinstance(thing, (list, tuple)) or len(thing) > 100:
+        return False
+    return all(isinstance(c, str) and len(c) == n and set(c) <= set("01-") for c in thing)
+
+
+def slow_covered(point, cover):
+    return any(point in inside(product) for product in cover)
+
+
+def slow_misfit(text, cover):
+    for point, sign in signs_of(text).items():
+        if sign != "-" and slow_covered(point, cover) != (sign == "1"):
+            return point
+    return None
+
+
+def slow_wires(change, cover):
+    start, end = change
+    return [(j, i) for j in range(len(cover)) for i in range(len(start)) if cover[j][i] != "-" and start[i] != end[i]]
+
+
+def shown(change, cover, turned):
+    """The value of the OR while the wires of turned have turned, by the words of [25]."""
+    start, end = change
+    for j, product in enumerate(cover):
+        seen = [end[i] if (j, i) in turned else start[i] for i in range(len(start))]
+        if all(sign == "-" or sign == value for sign, value in zip(product, seen)):
+            return "1"
+    return "0"
+
+
+def slow_word(change, cover, order):
+    word = shown(change, cover, set())
+    for k in range(len(order)):
+        sign = shown(change, cover, set(order[:k + 1]))
+        word += sign if sign != word[-1] else ""
+    return word
+
+
+def too_long(word):
+    """Whether a word is longer than needed, by the words of [26]."""
+    return (len(word) > 1 and word[0] == word[-1]) or len(word) > 2
+
+
+def longest_by_subsets(change, cover):
+    """The longest word of all orders, by all sets of wires that may have turned; for few wires."""
+    rows = slow_wires(change, cover)
+    words = {0: shown(change, cover, set())}
+    for mask in range(1, 2 ** len(rows)):
+        sign = shown(change, cover, {wire for k, wire in enumerate(rows) if mask >> k & 1})
+        before = [words[mask ^ 1 << k] for k in range(len(rows)) if mask >> k & 1]
+        words[mask] = max((word if word[-1] == sign else word + sign for word in before), key=len)
+    return words[2 ** len(rows) - 1]
+
+
+@functools.cache
+def slow_product_word(change, product):
+    return longest_by_subsets(change, [product])
+
+
+def slow_longest(change, cover):
+    """The longest word, by the words of the products combined as signals with delays of their own."""
+    words = [slow_product_word(change, product) for product in cover]
+    if "1" in words:
+        return "1"
+    zeros = 1 + sum(word.count("0") - 1 for word in words)
+    first = "1" if any(word[0] == "1" for word in words) else ""
+    last = "1" if any(word[-1] == "1" for word in words) else ""
+    return first + "1".join("0" * zeros) + last
+
+
+def slow_fits(text, listed, cover):
+    """Whether cover is a cover for the demand of a table and changes, by the words of [50]."""
+    if not slow_is_cover(cover, len(text).bit_length() - 1) or slow_misfit(text, cover) is not None:
+        return False
+    return not any(too_long(slow_longest(change, cover)) for change in listed)
+
+
+@functools.cache
+def turning_end(text, change):
+    """The end of a rise or fall that is on, else None."""
+    signs = signs_of(text)
+    kind = slow_kind(text, change)
+    end = {"rise": change[1], "fall": change[0]}.get(kind)
+    assert end is None or signs[end] == "1"
+    return end
+
+
+def slow_broken(text, listed, cube):
+    """The numbers of the changes that a cube breaks, by the words of [43]."""
+    numbers = []
+    for at, change in enumerate(listed):
+        end = turning_end(text, change)
+        if end is not None and inside(cube) & inside(slow_span(*change)) and end not in inside(cube):
+            numbers.append(at)
+    return numbers
+
+
+def has_off(text, cube):
+    signs = signs_of(text)
+    return any(signs[point] == "0" for point in inside(cube))
+
+
+def slow_good(text, listed, cube):
+    return not has_off(text, cube) and slow_broken(text, listed, cube) == []
+
+
+def outer(rows):
+    """The cubes that no other one of them holds, ascending, each once."""
+    return sorted(c for c in set(rows) if not any(inside(c) < inside(d) for d in rows))
+
+
+def slow_good_primes(text, listed):
+    return outer([cube for cube in cubes(len(text).bit_length() - 1) if slow_good(text, listed, cube)])
+
+
+def slow_growths(text, listed, cube):
+    """All growths of a cube, as pairs of the last cube and the list of the steps."""
+    numbers = slow_broken(text, listed, cube)
+    if not numbers:
+        return [(cube, [])]
+    rows = []
+    for at in numbers:
+        larger = slow_span(cube, turning_end(text, listed[at]))
+        rows += [(last, [(at, larger)] + steps) for last, steps in slow_growths(text, listed, larger)]
+    return rows
+
+
+def slow_needed(text, listed):
+    """The needed cubes, by the words of [48]."""
+    signs = signs_of(text)
+    rows = [point for point in signs if signs[point] == "1"]
+    for change in listed:
+        room = inside(slow_span(*change))
+        if slow_kind(text, change) == "high":
+            rows.append(slow_span(*change))
+        anchor = turning_end(text, change)
+        if anchor is not None:
+            spans = [slow_span(anchor, point) for point in room]
+            rows += [s for s in spans if all(signs[point] == "1" for point in inside(s))]
+    return outer(rows)
+
+
+def slow_barred(text, listed):
+    """Whether a needed cube grows over an off point."""
+    return any(has_off(text, slow_growths(text, listed, cube)[0][0]) for cube in slow_needed(text, listed))
+
+
+def some_demands(n, many, seed, most=5):
+    """Pairs of the text of a table and a list of up to so many plain changes of it; every other one turns widely."""
+    source = sample(seed)
+    rows = []
+    while len(rows) < many:
+        wide = len(rows) % 2
+        ons = set().union(*[inside(source.choice(cubes(n))) for _ in range(source.randint(1, 4))])
+        frees = set() if wide else {source.choice(points(n)) for _ in range(source.choice([0, 0, 1, 2, 4]))}
+        text = "".join("-" if p in frees else "1" if p in ons else "0" for p in points(n))
+        pairs = changes(n) if n <= 3 else source.sample(changes(n), 60)
+        plain = [change for change in pairs if slow_kind(text, change) not in ("free", "uneven")]
+        turning = [change for change in plain if turning_end(text, change)]
+        broad = [change for change in turning if slow_span(*change).count("-") > 1]
+        pool = broad if wide and broad else turning * 2 + plain
+        rows.append((text, [source.choice(pool) for _ in range(source.randint(0, most))] if pool else []))
+    return rows
+
+
+def barred_demands(n, many, seed):
+    """Like some_demands, but those alone for which there is no cover; n is at least 3."""
+    rows = []
+    while len(rows) < many:
+        seed += 100
+        rows += [row for row in some_demands(n, 50, seed, 8) if slow_barred(*row)]
+    return rows[:many]
+
+
 def nest(deep, wrap):
     thing = 0
     for _ in range(deep):
@@ -51,25 +284,27 @@ def nest(deep, wrap):
     return thing
 
 
-def anything():
-    """Values of all kinds that Python has built in, and some of the program."""
+def anything(deep=40):
+    """Values of all kinds that Python has built in, nested at most so deep, and some of the program."""
     plain = [
         None, True, False, 0, 1, 2, 5, 6, -1, 10 ** 40, -(10 ** 40), 0.0, 1.0, 2.0, 1.5, -0.5,
         float("inf"), float("nan"), 1j, "", " ", "x", "\n", "-", "0", "1", "2", "01x", "0 1", "00\n", "0" * 6,
         "-" * 6, "01-" * 50, b"", b"0", b"01", bytearray(b"01"), memoryview(b"01"), range(0), range(2),
         slice(0, 1), ..., NotImplemented, object(), object, int, str, type, len, print, ValueError, ValueError("00"),
-        zip(), iter([]), iter("01"), (s for s in "01"), reversed("01"), enumerate("01"), map(str, [0]), filter(None, []),
-        lambda: "01", str.join, "01".join, property(), staticmethod(len), super, itertools,
+        zip(), iter([]), iter("01"), (s for s in "01"), reversed("01"), enumerate("01"), map(str, [0]),
+        filter(None, []), lambda: "01", str.join, "01".join, property(), staticmethod(len), super, itertools,
     ]
     boxes = [
-        [], (), {}, set(), frozenset(), [[]], ((),), [()], ([],), [None], (None,), ["x"], ("x",), ["0"], ("0",), [0], (0,),
-        ["0", "1"], {"0": "1"}, {"0"}, frozenset("01"), {0: 0, 1: 1}, [True], (1.0,), (0, 0), [0, 0], ("0", 1), (b"0", b"1"),
-        ["-"] * 100, ["-"] * 101, list("01") * 40, {"a": [{"b": ({1},)}]}, ("0", "x"), ("", ""), ("0", ["1"]), (["0"], "1"),
+        [], (), {}, set(), frozenset(), [[]], ((),), [()], ([],), [None], (None,), ["x"], ("x",), ["0"], ("0",), [0],
+        (0,), ["0", "1"], ("0", "1"), {"0": "1"}, {"0"}, frozenset("01"), {0: 0, 1: 1}, [True], (1.0,), (0, 0), [0, 0],
+        ("00", "11"), ["00", "11"], ("00", "11", "11"), ("00", []), ("0", 1), (b"0", b"1"), ("0", "x"), ("", ""),
+        ("0", ["1"]), (["0"], "1"), ["-"] * 100, ["-"] * 101, list("01") * 40, {"a": [{"b": ({1},)}]},
     ]
-    deep = [nest(40, lambda x: [x]), nest(40, lambda x: (x,)), nest(40, lambda x: {"a": x}),
-            nest(12, lambda x: (x, [x]))]
-    own = [Table("01"), Table("0110"), ShopError(), ShopError, Table, InvalidCube(0), NothingLeft("cover"), Table.value]
-    return plain + boxes + deep + own
+    towers = [nest(deep, lambda x: [x]), nest(deep, lambda x: (x,)), nest(deep, lambda x: {"a": x}),
+              nest(min(deep // 2, 12), lambda x: (x, [x]))]
+    own = [Table("01"), Table("0110"), ShopError(), ShopError, Table, InvalidCube(0), NothingLeft("cover"), Table.value,
+           Demand(Table("0111")), Demand(Table("0111"), [("00", "11")]), Demand]
+    return plain + boxes + towers + own
 
 
 def is_int(thing):
