@@ -58,6 +58,18 @@ def slow_size(cover):
     return (len(cover), sum(sign in "01" for cube in cover for sign in cube))
 
 
+def slow_pruned(text, listed, cover):
+    """The products that remain when each one that can be left out is left out in turn."""
+    kept = list(cover)
+    at = 0
+    while at < len(kept):
+        if slow_fits(text, listed, kept[:at] + kept[at + 1:]):
+            del kept[at]
+        else:
+            at += 1
+    return kept
+
+
 def slow_least(text, listed, pool):
     """All least covers from this pool of cubes, by trying all; none if there is no cover."""
     for many in range(len(pool) + 1):
@@ -204,13 +216,7 @@ class OfACover(Case):
         for n in SIZES:
             for text, listed, cover in self.rows(n, {1: 15, 2: 25, 3: 25, 4: 8, 5: 4}[n]):
                 demand = Demand(Table(text), listed)
-                kept = list(cover)
-                at = 0
-                while at < len(kept):
-                    if slow_fits(text, listed, kept[:at] + kept[at + 1:]):
-                        del kept[at]
-                    else:
-                        at += 1
+                kept = slow_pruned(text, listed, cover)
                 self.assertEqual(pruned(demand, cover), kept)
                 self.assertEqual(pruned(demand, tuple(cover)), kept)
                 self.assertTrue(slow_fits(text, listed, kept))
@@ -241,13 +247,7 @@ class OfACover(Case):
                 cover = small_cover(demand)
                 primes = slow_good_primes(text, listed)
                 wide = [next(p for p in primes if inside(cube) <= inside(p)) for cube in grown_cover(demand)]
-                kept = list(wide)
-                at = 0
-                while at < len(kept):
-                    if slow_fits(text, listed, kept[:at] + kept[at + 1:]):
-                        del kept[at]
-                    else:
-                        at += 1
+                kept = slow_pruned(text, listed, wide)
                 self.assertEqual(cover, kept)
                 self.assertEqual(cover, pruned(demand, widened(demand, grown_cover(demand))))
                 self.assertTrue(slow_fits(text, listed, cover))
