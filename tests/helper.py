@@ -9,6 +9,7 @@ import unittest
 from burstshop.errors import InvalidCube, NothingLeft, ShopError
 from burstshop.growth import Demand
 from burstshop.tables import Table
+from burstshop.words import Word
 
 SIZES = (1, 2, 3, 4, 5)
 
@@ -277,8 +278,230 @@ def barred_demands(n, many, seed):
     return rows[:many]
 
 
-def nest(deep, wrap):
-    thing = 0
+def alternating(first, many):
+    """The word with this first sign and so many signs."""
+    return ("01" if first == "0" else "10") * (many // 2) + (first if many % 2 else "")
+
+
+def words(most):
+    """All words of at most so many signs, shorter ones first."""
+    return [alternating(first, many) for many in range(1, most + 1) for first in "01"]
+
+
+def slow_combined(head, v, w):
+    """The word of an and or an or of two words, by the words of [61]."""
+    strong, weak = ("1", "0") if head == "or" else ("0", "1")
+    if strong in (v, w):
+        return strong
+    many = v.count(weak) + w.count(weak) - 1
+    first = strong if strong in (v[0], w[0]) else weak
+    last = strong if strong in (v[-1], w[-1]) else weak
+    size = 2 * many + 1 - (first == weak) - (last == weak)
+    word = alternating(first, size)
+    assert (word.count(weak), word[0], word[-1]) == (many, first, last)
+    return word
+
+
+def exchanged(word):
+    return "".join({"0": "1", "1": "0"}.get(sign, sign) for sign in word)
+
+
+def is_cut(word, whole):
+    """Whether a word is a cut of another one, by the words of [62]."""
+    return word[0] == whole[0] and word[-1] == whole[-1] and len(word) <= len(whole)
+
+
+def nots(deep, leaf=("in", 0)):
+    """A tree of nots alone that is so deep."""
+    return nest(deep - 1, lambda tree: ("not", tree), leaf)
+
+
+def parts_in(tree):
+    """The parts of a node of a tree."""
+    return {"not": tree[1:], "and": tree[-1], "or": tree[-1]}.get(tree[0], ())
+
+
+def all_nodes(tree, path=()):
+    """Pairs of the path and the node, a node before its parts."""
+    rows = [(path, tree)]
+    for at, part in enumerate(parts_in(tree)):
+        rows += all_nodes(part, path + (at,))
+    return rows
+
+
+def leaves_in(tree):
+    return [(path, node) for path, node in all_nodes(tree) if not parts_in(node)]
+
+
+def levels(tree):
+    return 1 + max(len(path) for path, _ in all_nodes(tree))
+
+
+def node_form(thing, n):
+    """What a node is by its own form: "leaf", "not", "gate" or None, by the words of [64]."""
+    if not isinstance(thing, tuple) or len(thing) == 0 or not isinstance(thing[0], str):
+        return None
+    if thing in (("one",), ("zero",)):
+        return "leaf"
+    if len(thing) != 2:
+        return None
+    if thing[0] == "in":
+        return "leaf" if is_int(thing[1]) and thing[1] in range(n) else None
+    if thing[0] == "not":
+        return "not"
+    return "gate" if thing[0] in ("and", "or") and isinstance(thing[1], tuple) and thing[1] else None
+
+
+def first_wrong(thing, n, path=(), counted=None):
+    """The path of the first wrong node, or None, by the words of [64]."""
+    counted = [] if counted is None else counted
+    form = node_form(thing, n)
+    if form is None or len(path) > 7 or (form == "leaf" and len(counted) == 240):
+        return path
+    if form == "leaf":
+        counted.append(path)
+    for at, part in enumerate(() if form == "leaf" else thing[1:] if form == "not" else thing[1]):
+        wrong = first_wrong(part, n, path + (at,), counted)
+        if wrong is not None:
+            return wrong
+    return None
+
+
+def tree_value(point, tree):
+    """Whether a tree is 1 at a point, by the words of [65]."""
+    head = tree[0]
+    if head == "in":
+        return point[tree[1]] == "1"
+    if head in ("one", "zero"):
+        return head == "one"
+    values = [tree_value(point, part) for part in parts_in(tree)]
+    return not values[0] if head == "not" else all(values) if head == "and" else any(values)
+
+
+def leaf_signs(change, leaf):
+    """The word of a leaf, by the words of [67]."""
+    first, last = [str(int(tree_value(end, leaf))) for end in change]
+    return first if first == last else first + last
+
+
+def slow_longest_of(change, tree):
+    """The longest word of a tree, by the words of [69]."""
+    found = [slow_longest_of(change, part) for part in parts_in(tree)]
+    if not found:
+        return leaf_signs(change, tree)
+    if tree[0] == "not":
+        return exchanged(found[0])
+    return functools.reduce(lambda v, w: slow_combined(tree[0], v, w), found)
+
+
+def gate_word(head, rows, weave):
+    """The word of a gate whose parts have these words, by the words of [67]."""
+    word = ""
+    for k in range(len(weave) + 1):
+        signs = [row[weave[:k].count(at)] for at, row in enumerate(rows)]
+        sign = min(signs) if head == "and" else max(signs)
+        word += sign if word[-1:] != sign else ""
+    return word
+
+
+def weaves(counts):
+    """All tuples in which the number at occurs counts[at] times."""
+    if not any(counts):
+        return [()]
+    rows = []
+    for at, many in enumerate(counts):
+        if many:
+            rest = [count - (k == at) for k, count in enumerate(counts)]
+            rows += [(at,) + row for row in weaves(rest)]
+    return rows
+
+
+def all_plays(change, tree):
+    """Pairs of each play of a tree and its word, by the words of [67]."""
+    if tree[0] == "not":
+        return [(play, exchanged(word)) for play, word in all_plays(change, tree[1])]
+    if not parts_in(tree):
+        return [((), leaf_signs(change, tree))]
+    pairs = []
+    for row in itertools.product(*[all_plays(change, part) for part in tree[1]]):
+        plays = tuple(play for play, _ in row)
+        found = [word for _, word in row]
+        pairs += [((w, plays), gate_word(tree[0], found, w)) for w in weaves([len(word) - 1 for word in found])]
+    return pairs
+
+
+def slow_text(tree):
+    """The text of a tree, by the words of [210]."""
+    if tree[0] == "in":
+        return "x" + "01234"[tree[1]]
+    if tree[0] in ("one", "zero"):
+        return "1" if tree[0] == "one" else "0"
+    if tree[0] == "not":
+        return "!" + slow_text(tree[1])
+    return ("&(" if tree[0] == "and" else "|(") + ",".join(slow_text(part) for part in tree[1]) + ")"
+
+
+def random_tree(n, source, leaves, deep):
+    """A tree with about so many leaves, at most so deep."""
+    if leaves <= 1 or deep <= 1:
+        leaf = source.choice([("one",), ("zero",)] + [("in", source.randrange(n)) for _ in range(12)])
+        return ("not", leaf) if deep > 1 and source.randrange(3) == 0 else leaf
+    if source.randrange(5) == 0:
+        return ("not", random_tree(n, source, leaves, deep - 1))
+    many = source.choice([1, 2, 2, 2, 3, 3, 4]) if leaves < 40 else source.randint(2, 9)
+    cuts = sorted(source.randint(0, leaves) for _ in range(many - 1))
+    shares = [b - a for a, b in zip([0] + cuts, cuts + [leaves])]
+    return (source.choice(["and", "or"]), tuple(random_tree(n, source, share, deep - 1) for share in shares))
+
+
+def some_trees(n, many, seed, leaves=8, deep=8):
+    """Trees of n inputs; the first ones are leaves and small gates."""
+    source = sample(1000 * seed + n)
+    x = ("in", n - 1)
+    rows = [("in", 0), x, ("one",), ("zero",), ("not", x), ("and", (x,)), ("or", (x,)), ("or", (x, ("not", x)))]
+    while len(rows) < many:
+        rows.append(random_tree(n, source, source.randint(1, leaves), source.randint(1, deep)))
+    return rows[:many]
+
+
+def wrong_trees(n):
+    """Pairs of a value that is no tree of n inputs and the path of its first wrong node."""
+    x, one = ("in", 0), ("one",)
+    rows = [
+        ((), ()), (("in",), ()), (("in", 0, 0), ()), (("in", n), ()), (("in", -1), ()), (("in", 5), ()),
+        (("in", True), ()), (("in", False), ()), (("in", 0.0), ()), (("in", "0"), ()), (("in", None), ()),
+        (("in", (0,)), ()), (["in", 0], ()), (("In", 0), ()), (("x", 0), ()), (("one", 0), ()), (("zero", ()), ()),
+        (("one", "one"), ()), (("one", one), ()), (["one"], ()), ("one", ()), (("zeros",), ()), (("not",), ()),
+        (("not", x, x), ()), (["not", x], ()), (("and",), ()), (("and", ()), ()), (("or", ()), ()),
+        (("and", [x]), ()), (("or", [x, x]), ()), (("and", x, x), ()), (("or", {0: x}), ()), (("and", None), ()),
+        (("xor", (x, x)), ()), ((b"and", (x,)), ()), ((0, (x,)), ()), ((("in",), 0), ()), (("and", (x,), ()), ()),
+        (("and", x), (0,)), (("or", ("one",)), (0,)), (("not", None), (0,)), (("not", ("in", n)), (0,)),
+        (("not", (x,)), (0,)), (("or", (x, None)), (1,)), (("and", (x, [])), (1,)), (("or", (None, None)), (0,)),
+        (("and", (x, one, ("or", ()), None)), (2,)), (("and", (("not", None), None)), (0, 0)),
+        (("and", (("or", (x, ("in", n))), ("or", ()))), (0, 1)), (("and", (("or", [None]), None)), (0,)),
+        (("or", (one, ("not", ("and", (x, x, ("in", -1)))), ())), (1, 0, 2)),
+        (nots(9), (0,) * 8), (nots(9, one), (0,) * 8), (nots(9, None), (0,) * 8), (nots(8, None), (0,) * 7),
+        (nots(30), (0,) * 8), (("or", (x, nots(8))), (1,) + (0,) * 7), (("or", (nots(8), None)), (0,) * 8),
+        (("and", (nots(7), x, nots(8, one))), (2,) + (0,) * 7), (("or", (nots(7), None, nots(8))), (1,)),
+        (nest(8, lambda t: ("and", (x, t)), one), (1,) * 7 + (0,)), (nest(8, lambda t: ("or", (t,)), x), (0,) * 8),
+        (("or", (x,) * 241), (240,)), (("or", (x,) * 240 + (None,)), (240,)), (("or", (x,) * 240 + (("not", x),)), (240, 0)),
+        (("or", (x,) * 239 + (None, x)), (239,)), (("and", (("or", (x,) * 120), ("or", (one,) * 121))), (1, 120)),
+        (("and", (("or", (x,) * 239), ("or", (x,) * 2))), (1, 1)), (("and", (("not", one),) * 241), (240, 0)),
+        (("and", (("or", (x,) * 240), ("or", ()))), (1,)), (("and", (("or", (x,) * 240), ("or", (x,)))), (1, 0)),
+        (("and", (("or", (x,) * 240), ("not", ("not", ("zero",))))), (1, 0, 0)), (("or", (x,) * 1000), (240,)),
+        (nest(7, lambda t: ("and", (t, t, t)), x), (0, 0, 2, 2, 2, 2, 0)),
+    ]
+    rows += [(thing, ()) for thing in anything()]
+    for thing in anything(30):
+        rows += [(("not", thing), (0,)), (("or", (x, ("and", (one, thing)), thing)), (1, 1)), ((thing, (x,)), ()),
+                 (("in", thing), None if is_int(thing) and thing in range(n) else ()), (("and", thing), None),
+                 (("or", (thing, x)), (0,))]
+    # What a few of these values are is told by the words of the document.
+    told = [(thing, first_wrong(thing, n) if path is None else path) for thing, path in rows]
+    return [(thing, path) for thing, path in told if path is not None]
+
+
+def nest(deep, wrap, thing=0):
     for _ in range(deep):
         thing = wrap(thing)
     return thing
@@ -303,7 +526,7 @@ def anything(deep=40):
     towers = [nest(deep, lambda x: [x]), nest(deep, lambda x: (x,)), nest(deep, lambda x: {"a": x}),
               nest(min(deep // 2, 12), lambda x: (x, [x]))]
     own = [Table("01"), Table("0110"), ShopError(), ShopError, Table, InvalidCube(0), NothingLeft("cover"), Table.value,
-           Demand(Table("0111")), Demand(Table("0111"), [("00", "11")]), Demand]
+           Demand(Table("0111")), Demand(Table("0111"), [("00", "11")]), Demand, Word("0"), Word("1010"), Word]
     return plain + boxes + towers + own
 
 
