@@ -8,6 +8,7 @@ import unittest
 
 from burstshop.errors import InvalidCube, NothingLeft, ShopError
 from burstshop.growth import Demand
+from burstshop.machines import Machine
 from burstshop.tables import Table
 from burstshop.words import Word
 
@@ -441,6 +442,72 @@ def slow_text(tree):
     return ("&(" if tree[0] == "and" else "|(") + ",".join(slow_text(part) for part in tree[1]) + ")"
 
 
+NAMES = ("a", "b2", "c")
+
+
+def subsets(names):
+    """All parts of a row of names but the empty one, as tuples in their order."""
+    return [part for many in range(1, len(names) + 1) for part in itertools.combinations(names, many)]
+
+
+def random_machine(source, most_states=4, arcs=None):
+    """A sound machine by chance: each state has its values, and arcs lead from values to values."""
+    inputs, outputs = NAMES[:source.randint(1, 3)], ("x", "y", "z")[:source.randint(0, 3)]
+    values = {s: [{n for n in names if source.randrange(2)} for names in (inputs, outputs)] for s in range(8)}
+    values[0] = [set(), set()]
+    states = source.sample(range(1, 8), source.randint(0, most_states - 1)) + [0]
+    rows = []
+    for _ in range(source.randint(0, 10) if arcs is None else arcs):
+        state, after = source.choice(states), source.choice(states)
+        burst, flips = [sorted(a ^ b) for a, b in zip(values[state], values[after])]
+        bursts = [set(other) for own, other, _, _ in rows if own == state]
+        if burst and not any(set(burst) <= other or other <= set(burst) for other in bursts):
+            source.shuffle(burst)
+            rows.append((state, burst, flips, after))
+    return Machine(inputs, outputs, rows)
+
+
+def some_machines(many, seed, most_states=4):
+    """Sound machines; the first ones have few arcs."""
+    source = sample(seed)
+    follower = [(0, ["a"], ["x"], 1), (1, ["a"], ["x"], 0)]
+    join = [(0, NAMES, ["x"], 1), (1, NAMES, ["x"], 0)]
+    rows = [Machine(["a"], [], []), Machine(["a"], ["x"], follower), Machine(NAMES, ["x"], join),
+            Machine(["a"], ["x"], [(3, ["a"], [], 2)])]
+    while len(rows) < many:
+        # Most machines by chance have few states that are reached.
+        machine = random_machine(source, most_states, 14)
+        if len(reached(machine)) > source.randint(0, 4):
+            rows.append(machine)
+    return rows[:many]
+
+
+def reached(machine):
+    """The reached states of a machine in the order in which they are met."""
+    states = [0]
+    for state in states:
+        states += dict.fromkeys(arc[3] for arc in machine.arcs if arc[0] == state and arc[3] not in states)
+    return states
+
+
+def signs_of_set(names, some):
+    return "".join("1" if name in some else "0" for name in names)
+
+
+def slow_entries(machine):
+    """A dict from each reached state to the set of all values with which it can be entered."""
+    nothing = (frozenset(), frozenset())
+    found, waiting = {0: {nothing}}, [(0, nothing)]
+    while waiting:
+        state, (ins, outs) = waiting.pop()
+        for own, burst, flips, after in machine.arcs:
+            values = (ins ^ set(burst), outs ^ set(flips))
+            if own == state and values not in found.setdefault(after, set()):
+                found[after].add(values)
+                waiting.append((after, values))
+    return found
+
+
 def random_tree(n, source, leaves, deep):
     """A tree with about so many leaves, at most so deep."""
     if leaves <= 1 or deep <= 1:
@@ -484,7 +551,8 @@ def wrong_trees(n):
         (nots(30), (0,) * 8), (("or", (x, nots(8))), (1,) + (0,) * 7), (("or", (nots(8), None)), (0,) * 8),
         (("and", (nots(7), x, nots(8, one))), (2,) + (0,) * 7), (("or", (nots(7), None, nots(8))), (1,)),
         (nest(8, lambda t: ("and", (x, t)), one), (1,) * 7 + (0,)), (nest(8, lambda t: ("or", (t,)), x), (0,) * 8),
-        (("or", (x,) * 241), (240,)), (("or", (x,) * 240 + (None,)), (240,)), (("or", (x,) * 240 + (("not", x),)), (240, 0)),
+        (("or", (x,) * 241), (240,)), (("or", (x,) * 240 + (None,)), (240,)),
+        (("or", (x,) * 240 + (("not", x),)), (240, 0)),
         (("or", (x,) * 239 + (None, x)), (239,)), (("and", (("or", (x,) * 120), ("or", (one,) * 121))), (1, 120)),
         (("and", (("or", (x,) * 239), ("or", (x,) * 2))), (1, 1)), (("and", (("not", one),) * 241), (240, 0)),
         (("and", (("or", (x,) * 240), ("or", ()))), (1,)), (("and", (("or", (x,) * 240), ("or", (x,)))), (1, 0)),
@@ -526,7 +594,8 @@ def anything(deep=40):
     towers = [nest(deep, lambda x: [x]), nest(deep, lambda x: (x,)), nest(deep, lambda x: {"a": x}),
               nest(min(deep // 2, 12), lambda x: (x, [x]))]
     own = [Table("01"), Table("0110"), ShopError(), ShopError, Table, InvalidCube(0), NothingLeft("cover"), Table.value,
-           Demand(Table("0111")), Demand(Table("0111"), [("00", "11")]), Demand, Word("0"), Word("1010"), Word]
+           Demand(Table("0111")), Demand(Table("0111"), [("00", "11")]), Demand, Word("0"), Word("1010"), Word,
+           Machine(["a"], ["z"], [(0, ["a"], ["z"], 1)]), Machine(["a"], [], []), Machine]
     return plain + boxes + towers + own
 
 

@@ -171,7 +171,8 @@ class Trees(Case):
                 self.assertEqual(word_of_play(change, tree, play), slow_longest_of(change, tree))
 
     def test_trees_past_the_bounds(self):
-        for tree, path in ((("or", (X,) * 241), (240,)), (("and", (("or", (X,) * 120), ("or", (ONE,) * 121))), (1, 120)),
+        for tree, path in ((("or", (X,) * 241), (240,)),
+                           (("and", (("or", (X,) * 120), ("or", (ONE,) * 121))), (1, 120)),
                            (nots(9), (0,) * 8), (nest(8, lambda t: ("or", (t,)), X), (0,) * 8)):
             self.says(False, is_tree(tree, 5))
             self.refuses(InvalidTree, {"path": path}, measure, tree)
@@ -431,7 +432,8 @@ class Plays(Case):
 
     def test_a_wrong_change_comes_first(self):
         wrong = [thing for thing in anything() if thing not in (("00", "11"), ("0", "1"))]
-        wrong += [("0", "0"), ("0", "00"), ("", ""), ("000000", "111111"), ("0", "-"), ["0", "1"], ("0",), ("0", "1", "0")]
+        wrong += [("0", "0"), ("0", "00"), ("", ""), ("000000", "111111"), ("0", "-"), ["0", "1"], ("0",),
+                  ("0", "1", "0")]
         for thing in wrong:
             with self.subTest(thing=names(thing)):
                 for tree in (ONE, None):
@@ -479,7 +481,8 @@ class TreesOfCovers(Case):
                     self.assertEqual(longest_of(change, tree), longest(change, cover))
 
     def test_240_leaves_and_more(self):
-        for n, cover in ((5, ["01010"] * 48), (5, ["01010"] * 47 + ["1----", "0----"] + ["-----"] * 3), (4, ["0000"] * 60),
+        for n, cover in ((5, ["01010"] * 48), (5, ["01010"] * 47 + ["1----", "0----"] + ["-----"] * 3),
+                         (4, ["0000"] * 60),
                          (3, ["000"] * 80), (5, ["0000-"] * 45 + ["0----", "-----"] * 27), (2, ["00"] * 100)):
             tree = tree_of(n, cover)
             self.assertEqual(tree, slow_tree_of(cover))

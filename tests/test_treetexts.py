@@ -78,7 +78,8 @@ class TreeTexts(Case):
             self.assertEqual(write_tree(tree), slow_text(tree))
 
     def test_trees_past_the_bounds(self):
-        trees = [("or", (X,) * 241), ("or", (("and", (X,) * 120), ("or", (X,) * 121))), nots(9), nots(40), nots(9, ("one",)),
+        trees = [("or", (X,) * 241), ("or", (("and", (X,) * 120), ("or", (X,) * 121))), nots(9), nots(40),
+                 nots(9, ("one",)),
                  nest(8, lambda t: ("or", (t,)), X), ("and", (X, nots(8))), ("and", (nots(7), nots(8))),
                  ("or", (X,) * 241 + (nots(8),)), ("or", (X, nots(8)) + (X,) * 240), ("or", (X,) * 240 + (nots(5),))]
         for tree in trees:
@@ -131,9 +132,12 @@ class TreeTexts(Case):
                 self.refuses(InvalidText, {"at": len(text)}, read_tree, text + more)
 
     def test_odd_texts(self):
-        told = {" x0": 0, "x 0": 1, "x5": 1, "x9": 1, "x-": 1, "xx": 1, "x01": 2, "x10": 2, "y0": 0, "X0": 0, "2": 0, "-1": 0,
-                "&x0": 1, "&()": 2, "|(,)": 2, "|(x0,)": 5, "|(x0, x1)": 5, "|(x0;x1)": 4, "|[x0]": 1, "!()": 1, "(x0)": 0,
-                "~x0": 0, "!!": 2, "&(x0,x5)": 6, "&(x0|x1)": 4, "|(1)(": 4, "&(x0))": 5, "x0\n": 2, "\n": 0, ")": 0, ",": 0}
+        told = {" x0": 0, "x 0": 1, "x5": 1, "x9": 1, "x-": 1, "xx": 1, "x01": 2, "x10": 2, "y0": 0, "X0": 0, "2": 0,
+                "-1": 0,
+                "&x0": 1, "&()": 2, "|(,)": 2, "|(x0,)": 5, "|(x0, x1)": 5, "|(x0;x1)": 4, "|[x0]": 1, "!()": 1,
+                "(x0)": 0,
+                "~x0": 0, "!!": 2, "&(x0,x5)": 6, "&(x0|x1)": 4, "|(1)(": 4, "&(x0))": 5, "x0\n": 2, "\n": 0, ")": 0,
+                ",": 0}
         for text, at in told.items():
             self.assertEqual(first_fault(text), at)
             self.refuses(InvalidText, {"at": at}, read_tree, text)
@@ -151,7 +155,8 @@ class TreeTexts(Case):
             for _ in range(6):
                 at = source.randrange(len(text) + 1)
                 sign = source.choice(SIGNS + "5 -")
-                for other in (text[:at] + sign + text[at:], text[:at] + text[at + 1:], text[:at] + sign + text[at + 1:]):
+                for other in (text[:at] + sign + text[at:], text[:at] + text[at + 1:],
+                              text[:at] + sign + text[at + 1:]):
                     self.check(other)
 
     def test_no_call_changes_what_it_is_given(self):

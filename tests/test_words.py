@@ -46,7 +46,8 @@ class Words(Case):
         short = ["".join(signs) for many in range(9) for signs in itertools.product("01", repeat=many)]
         edges = [alternating("0", 1001), alternating("1", 1001), alternating("1", 2000), "0" * 1000, "01" * 500 + "0",
                  "01" * 499 + "00", "1" + "10" * 400, "01" * 100 + "10" * 100]
-        odd = ["-", "0-", "01-", "-01", "01 ", " 01", "01\n", "\n", "2", "012", "10x", "o1", "0,1", b"0", b"01", ["0", "1"],
+        odd = ["-", "0-", "01-", "-01", "01 ", " 01", "01\n", "\n", "2", "012", "10x", "o1", "0,1", b"0", b"01",
+               ["0", "1"],
                ("0", "1"), ["01"], 0, 1, 10, 101, True, False, None, Word("01")]
         for thing in short + edges + odd + anything():
             with self.subTest(thing=names(thing)):
