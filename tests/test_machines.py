@@ -381,9 +381,7 @@ class Feeding(Case):
                  (0, None), (0, "b"), (0, ""), (0, ((),)), (0, (None,)), (0, ("b", None)), (0, (("b",),)), (0,),
                  (0, (), ()), [0, ()], (),
                  ((0, ()),), (3, ("a",)), (1, ("b",)), (0, {"b"}), (0, (b"b",)), ([], ()), ({}, ()), ((), ())]
-        wrong += [thing for thing in anything()] + [(0, thing) for thing in anything(39)] + [(0,
-                                                                                              (thing,
-                                                                                               )) for thing in anything(38)]
+        wrong += anything() + [(0, thing) for thing in anything(39)] + [(0, (thing,)) for thing in anything(38)]
         wrong += [(thing, ()) for thing in anything(39)]
         known = {repr(standing) for standing in good}
         for thing in wrong:
@@ -461,7 +459,8 @@ class Feeding(Case):
         free = [(s, [n], [], s ^ 1 << k) for s in range(4) for k, n in enumerate(("a", "b"))]
         self.assertEqual(ways(Machine(["a", "b"], [], free), 2000), 2 ** 2000)
         self.assertEqual(ways(Machine(["a"], ["z"], FOLLOWER), 2000), 1)
-        self.assertEqual([ways(Machine(["a", "b"], [], [(0, ["a"], [], 1)]), many) for many in (0, 1, 2, 2000)], [1, 1, 0, 0])
+        once = Machine(["a", "b"], [], [(0, ["a"], [], 1)])
+        self.assertEqual([ways(once, many) for many in (0, 1, 2, 2000)], [1, 1, 0, 0])
 
     def test_wrong_numbers(self):
         machine = Machine(["a"], ["z"], FOLLOWER)

@@ -39,8 +39,7 @@ KEEPING = [
     (ZERO, land(ZERO, ONE)),
     (lor(A, land(A, B)), A), (land(A, lor(A, B)), A), (lor(A, no(A)), ONE), (land(A, no(A)), ZERO),
     (land(lor(A, B), lor(A, C)), lor(A, land(B, C))),
-    (lor(land(A, B), land(no(A), C), land(B, C)), lor(land(A, B), land(no(A), C),
-                                                                                             land(B, C))),
+    (lor(land(A, B), land(no(A), C), land(B, C)), lor(land(B, C), land(B, A), land(C, no(A)))),
     (land(A, lor(B, no(B))), A), (A, land(A, lor(A, A))),
 ]
 BREAKING = [
@@ -208,8 +207,8 @@ class Rules(Case):
     def test_rules(self):
         source = sample(1)
         large = lor(*[A, B, C, D, E] * 48)
-        for rule in KEEPING + BREAKING + [random_rule(source, 5) for _ in range(100)] + [(large, large),
-                                                                                         (nots(8), nots(8))]:
+        rules = [random_rule(source, 5) for _ in range(100)]
+        for rule in KEEPING + BREAKING + rules + [(large, large), (nots(8), nots(8))]:
             self.assertIsNone(wrong_rule(rule))
             self.assertIsNone(need_rule(rule))
         self.assertIsNone(need_rule(thing=(A, A)))
@@ -370,8 +369,8 @@ class Keeping(Case):
     def test_eight_words_are_enough(self):
         source = sample(6)
         more = words(7)
-        for rule in [rule for rule in KEEPING if len(letters(rule[0])) < 3] + [random_rule(source,
-                                                                                           2) for _ in range(60)]:
+        rules = [random_rule(source, 2) for _ in range(60)]
+        for rule in rules + [rule for rule in KEEPING if len(letters(rule[0])) < 3]:
             keeps = broken_by(rule) is None
             self.assertEqual(slow_broken_by(rule, more) is None, keeps, rule)
 
@@ -402,8 +401,8 @@ class Keeping(Case):
         """The other tree is as good as the tree; how many changes the tree is calm for."""
         for point in points(n):
             self.assertEqual(tree_value(point, tree), tree_value(point, other))
-        calm = [change for change in changes(n) if calm_tree(change,
-                                                             tree)] if is_small(tree) and is_small(other) else []
+        small = is_small(tree) and is_small(other)
+        calm = [change for change in changes(n) if small and calm_tree(change, tree)]
         for change in calm:
             self.says(True, calm_tree(change, other))
         return len(calm)
