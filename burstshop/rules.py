@@ -2,7 +2,7 @@
 
 from burstshop.errors import InvalidRule, InvalidWord, LimitExceeded, NothingLeft
 from burstshop.shapes import all_rows, letter_signal, row_words, tree_signal
-from burstshop.trees import need_tree, parts_of, tree_size, wrong_node
+from burstshop.trees import need_tree, nodes_of, parts_of, tree_size, with_parts, wrong_node
 from burstshop.treetexts import tree_text
 
 
@@ -111,24 +111,9 @@ def need_room(tree):
         raise LimitExceeded(8)
 
 
-def nodes_of(tree, path=()):
-    """List the paths and the nodes of a tree, a node ahead of its parts; path is that of the tree."""
-    rows = [(path, tree)]
-    for at, part in enumerate(parts_of(tree)):
-        rows.extend(nodes_of(part, (*path, at)))
-    return rows
-
-
 def letters_of(tree):
     """List the letters of a tree, ascending."""
     return sorted({node[1] for _, node in nodes_of(tree) if node[0] == "in"})
-
-
-def with_parts(tree, parts):
-    """Return the node with other parts, as many as it has."""
-    if tree[0] == "not":
-        return ("not", parts[0])
-    return (tree[0], tuple(parts)) if parts else tree
 
 
 def filled(tree, trees):

@@ -138,6 +138,21 @@ def parts_of(tree):
     return tree[1] if tree[0] in ("and", "or") else ()
 
 
+def nodes_of(tree, path=()):
+    """List the paths and the nodes of a tree, a node ahead of its parts; path is that of the tree."""
+    rows = [(path, tree)]
+    for at, part in enumerate(parts_of(tree)):
+        rows.extend(nodes_of(part, (*path, at)))
+    return rows
+
+
+def with_parts(tree, parts):
+    """Return the node with other parts, as many as it has."""
+    if tree[0] == "not":
+        return ("not", parts[0])
+    return (tree[0], tuple(parts)) if parts else tree
+
+
 def tree_size(tree):
     """Return how many leaves a tree has and how deep it is, for a tree of whatever size."""
     sizes = [tree_size(part) for part in parts_of(tree)]
