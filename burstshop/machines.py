@@ -4,6 +4,7 @@ from burstshop.errors import Choke, InvalidMachine, InvalidName, InvalidNumber, 
 from burstshop.signs import is_integer
 
 LETTERS = "abcdefghijklmnopqrstuvwxyz"
+DIGITS = "0123456789"
 
 
 class Machine:
@@ -125,7 +126,7 @@ def is_name(thing):
     """Tell whether thing is a name."""
     if not isinstance(thing, str) or not 1 <= len(thing) <= 8 or thing[0] not in LETTERS:
         return False
-    return all([sign in LETTERS or sign in "0123456789" for sign in thing])
+    return all([sign in LETTERS or sign in DIGITS for sign in thing])
 
 
 def is_arc(thing, inputs, outputs):

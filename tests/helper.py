@@ -6,10 +6,14 @@ import itertools
 import random
 import unittest
 
+from burstshop.boards import Board
+from burstshop.desk import Desk
 from burstshop.errors import InvalidCube, NothingLeft, ShopError
 from burstshop.growth import Demand
 from burstshop.machines import Machine
+from burstshop.nets import Net
 from burstshop.tables import Table
+from burstshop.webs import Web
 from burstshop.words import Word
 
 SIZES = (1, 2, 3, 4, 5)
@@ -595,7 +599,9 @@ def anything(deep=40):
               nest(min(deep // 2, 12), lambda x: (x, [x]))]
     own = [Table("01"), Table("0110"), ShopError(), ShopError, Table, InvalidCube(0), NothingLeft("cover"), Table.value,
            Demand(Table("0111")), Demand(Table("0111"), [("00", "11")]), Demand, Word("0"), Word("1010"), Word,
-           Machine(["a"], ["z"], [(0, ["a"], ["z"], 1)]), Machine(["a"], [], []), Machine]
+           Machine(["a"], ["z"], [(0, ["a"], ["z"], 1)]), Machine(["a"], [], []), Machine,
+           Net(Machine(["a"], [], []), [""], []), Net, Board(Net(Machine(["a"], [], []), [""], [])), Board,
+           Web([Machine(["a"], [], [])]), Web, Desk(Machine(["a"], ["z"], [])), Desk]
     return plain + boxes + towers + own
 
 
