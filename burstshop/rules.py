@@ -2,6 +2,7 @@
 
 from burstshop.errors import InvalidRule, InvalidWord, LimitExceeded, NothingLeft
 from burstshop.shapes import all_rows, letter_signal, row_words, tree_signal
+from burstshop.signs import is_integer
 from burstshop.trees import need_tree, nodes_of, parts_of, tree_size, with_parts, wrong_node
 from burstshop.treetexts import tree_text
 
@@ -133,11 +134,13 @@ def replaced(tree, path, new):
 
 
 def node_at(tree, path):
-    """Return the node at a path of the tree."""
+    """Return the node at a path of the tree; what is no path, whatever it is, leads to no node."""
+    if not isinstance(path, tuple):
+        raise NothingLeft("node")
     node = tree
     for at in path:
         parts = parts_of(node)
-        if at >= len(parts):
+        if not is_integer(at) or not 0 <= at < len(parts):
             raise NothingLeft("node")
         node = parts[at]
     return node

@@ -332,6 +332,11 @@ class Desks(Case):
                 self.refuses(InvalidRule, {"which": -1, "path": ()}, desk.rewrite, 0, (), thing)
         for place in ((3,), (0, 2), (0, 0, 0), (0,) * 8):
             self.refuses(NothingLeft, {"word": "node"}, desk.rewrite, 0, place, TURN)
+        for place in anything() + [[], [0], (-1,), (-3,), (True,), (False,), (0.0,), (0, None), "", {}, (0, -1)]:
+            # The places among them that lead to a node; a path as a text tells 0 from False and 0.0.
+            if not isinstance(place, tuple) or str(place) not in ("()", "(0,)", "(0, 0)"):
+                with self.subTest(place=names(place)):
+                    self.refuses(NothingLeft, {"word": "node"}, desk.rewrite, 0, place, TURN)
         self.refuses(NothingLeft, {"word": "rule"}, desk.rewrite, 0, (0,), TURN)
         self.refuses(LimitExceeded, {"limit": 240}, desk.rewrite, 0, (), (X, ("or", (X,) * 41)))
         deep = X

@@ -9,9 +9,9 @@ from burstshop import rules as module
 from burstshop.errors import InvalidRule, InvalidTree, InvalidWord, LimitExceeded, NothingLeft
 from burstshop.rules import broken_by, fitted, forms, leanest, letter_tree, need_rule, put_in, rewritten
 from burstshop.trees import at_point, calm_tree, longest_of
-from tests.helper import (Case, all_nodes, anything, changes, exchanged, first_wrong, leaves_in, levels, names, nest,
-                          nots, parts_in, points, random_tree, sample, slow_combined, slow_text, some_trees, too_long,
-                          tree_value, words, wrong_trees)
+from tests.helper import (Case, all_nodes, anything, changes, exchanged, first_wrong, is_int, leaves_in, levels, names,
+                          nest, nots, parts_in, points, random_tree, sample, slow_combined, slow_text, some_trees,
+                          too_long, tree_value, words, wrong_trees)
 
 A, B, C, D, E = [("in", i) for i in range(5)]
 ONE, ZERO = ("one",), ("zero",)
@@ -517,6 +517,24 @@ class Rewriting(Case):
         for path, node in all_nodes(tree):
             self.assertEqual(fitted(tree, path, (E, E)), {4: node})
         self.refuses(NothingLeft, {"word": "node"}, fitted, no(A), (1,), (A, A))
+
+    def test_any_value_as_a_path(self):
+        tree = lor(A, land(B, no(C)), ONE)
+        paths = [path for path, _ in all_nodes(tree)]
+        things = anything() + [[], [0], [1, 0], (-1,), (-3,), (1, -1), (True,), (False,), (1, False), (1.0, 0), (0.0,),
+                               "", "0", b"", {}, {0: 0}, range(0), range(1)]
+        for thing in anything(39):
+            things += [(thing,), (1, thing), (thing, 0), [1, thing]]
+        for thing in things:
+            with self.subTest(thing=names(thing)):
+                if isinstance(thing, tuple) and all(is_int(at) for at in thing) and thing in paths:
+                    self.assertEqual(fitted(tree, thing, (E, E)), {4: dict(all_nodes(tree))[thing]})
+                else:
+                    self.refuses(NothingLeft, {"word": "node"}, fitted, tree, thing, (A, A))
+                    self.refuses(NothingLeft, {"word": "node"}, rewritten, tree, thing, (ONE, lor(*[ONE] * 240)))
+                    # What is wrong with the tree or the rule comes ahead.
+                    self.refuses(InvalidTree, {"path": (0,)}, rewritten, no(None), thing, None)
+                    self.refuses(InvalidRule, {"which": -1, "path": ()}, rewritten, tree, thing, None)
 
     def test_the_first_error_that_is_due(self):
         for function in (fitted, rewritten):
