@@ -372,6 +372,28 @@ class Moves(Case):
             self.assertEqual(answers(third), answers(other))
 
 
+    def test_twins_in_the_middle_of_an_arc(self):
+        # A line that showed its new sign ahead of the twin may not show the old one again behind it.
+        net = Net(FOLLOWER, ["", ""], [("or", (X, ("and", (X, no(X)))))])
+        board = Board(net)
+        board.move(("input", "a"))
+        board.move(("leaf", 0, (1, 0)))
+        other = board.twin()
+        for one in (board, other):
+            self.assertEqual([one.shown(), one.wrong()], ["1", None])
+            one.move(("leaf", 0, (1, 1, 0)))
+            self.assertEqual([one.shown(), one.wrong()], ["0", 3])
+        # A twin of a board that has looked, and one of a board that went wrong.
+        machine = Machine(["a"], ["z"], [(0, ["a"], ["z"], 1)])
+        board = Board(Net(machine, ["0", "1"], [("and", (X, no(Y))), X]))
+        for move in (("input", "a"), ("leaf", 0, (0,)), ("leaf", 1, ()), ("wire", 0), ("leaf", 0, (1, 0))):
+            other = board.twin()
+            board.move(move)
+            other.move(move)
+            self.assertEqual(answers(other), answers(board))
+        self.assertEqual([board.twin().wrong(), other.wrong()], [5, 5])
+
+
 class GoingWrong(Case):
     def wrong(self, net, moves):
         board = Board(net)
